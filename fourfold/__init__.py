@@ -1,0 +1,1 @@
+"""Fourfold: pictures told by quarters."""

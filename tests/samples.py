@@ -1,0 +1,132 @@
+"""Pictures to try things on, and a second way to see what they show."""
+
+import itertools
+import random
+
+
+def every_tree(size, worths):
+    """All trees of a size, in whatever form, of the worths below a number."""
+    trees = list(range(worths))
+    if size > 0:
+        trees.extend(itertools.product(every_tree(size - 1, worths), repeat=4))
+    return trees
+
+
+def every_picture(size, worths):
+    return [(size, tree) for tree in every_tree(size, worths)]
+
+
+def every_rows(size, worths):
+    side = (1, 2, 4, 8)[size]
+    for spots in itertools.product(range(worths), repeat=side * side):
+        yield tuple(spots[y * side:(y + 1) * side] for y in range(side))
+
+
+def painted(picture):
+    """The rows of a picture, painted part by part onto a canvas, as the program does not do it."""
+    size, tree = picture
+    side = (1, 2, 4, 8)[size]
+    canvas = [[None] * side for _ in range(side)]
+
+    def paint(part, left, top, span):
+        if isinstance(part, tuple):
+            half = span // 2
+            above_left, above_right, below_left, below_right = part
+            paint(above_left, left, top, half)
+            paint(above_right, left + half, top, half)
+            paint(below_left, left, top + half, half)
+            paint(below_right, left + half, top + half, half)
+            return
+        for y in range(top, top + span):
+            for x in range(left, left + span):
+                canvas[y][x] = part
+
+    paint(tree, 0, 0, side)
+    return tuple(tuple(row) for row in canvas)
+
+
+def some_tree(source, size, worths):
+    if size == 0 or source.randrange(4) == 0:
+        return source.randrange(worths)
+    return tuple(some_tree(source, size - 1, worths) for _ in range(4))
+
+
+def some_pictures(many=60):
+    """The same pictures each time, of all sizes, in their least form and not."""
+    source = random.Random(4)
+    pictures = list(NAMED)
+    for number in range(many):
+        size = number % 4
+        pictures.append((size, some_tree(source, size, (2, 10)[number // 4 % 2])))
+    return pictures
+
+
+def full_tree(size, worth):
+    """A tree that is parted as deep as it may be, of one worth."""
+    tree = worth
+    for _ in range(size):
+        tree = (tree, tree, tree, tree)
+    return tree
+
+
+def melts(tree):
+    """Whether somewhere in a tree four quarters are the same worth."""
+    if not isinstance(tree, tuple):
+        return False
+    if not isinstance(tree[0], tuple) and tree == (tree[0],) * 4:
+        return True
+    return any(melts(part) for part in tree)
+
+
+NAMED = [
+    (0, 0),
+    (0, 9),
+    (1, 5),
+    (1, (1, 2, 3, 4)),
+    (1, (7, 7, 7, 7)),
+    (2, (0, (1, 1, 2, 1), 0, 9)),
+    (2, ((3, 3, 3, 3), 3, 3, 3)),
+    (2, ((1, 2, 3, 4), (1, 2, 3, 4), (1, 2, 3, 4), (1, 2, 3, 4))),
+    (3, 6),
+    (3, full_tree(3, 8)),
+    (3, (((1, 2, 3, 4), 5, 6, 7), 0, (8, 8, 8, (8, 8, 8, 8)), ((9, 0, 9, 0), 1, 2, 2))),
+]
+
+NO_WORTHS = [-1, 10, 11, 10 ** 30, -10 ** 30, True, False, None, "", "1", "5", [], [1], (), (1,), (1, 2, 3, 4)]
+
+NO_PICTURES = [
+    0, 5, -1, True, False, None, "", "0:5", "15", [], (), (0,), (5,), (0, 5, 0), (1, 2, 3, 4), [0, 5], [1, (1, 2, 3, 4)],
+    ((0, 5),), ((0, 5), (0, 5)), (None, 5), ("1", 5), ((), 5), ([1], 5), ((1,), 5),
+    # sizes beside 0 to 3
+    (-1, 5), (4, 5), (4, full_tree(4, 1)), (10 ** 30, 5), (True, 5), (False, 5), (True, (1, 2, 3, 4)),
+    # worths beside 0 to 9, at any depth
+    (0, -1), (0, 10), (2, -1), (3, 10), (0, True), (0, False), (3, True), (0, None), (0, "5"), (1, [5]), (0, [5]),
+    (1, (1, 2, 3, 10)), (1, (-1, 2, 3, 4)), (1, (1, True, 3, 4)), (1, (1, 2, 3, False)), (1, (None, 2, 3, 4)),
+    (2, (1, 2, 3, (1, 2, 3, True))), (3, (1, 2, (1, 2, 3, (False, 0, 0, 0)), 4)), (3, (1, 2, (1, 2, 3, (10, 0, 0, 0)), 4)),
+    (3, (1, 2, (1, 2, 3, (0, 0, 0, "0")), 4)), (3, ((((None, 0, 0, 0), 0, 0, 0)), 0, 0, 0)),
+    # trees deeper than their size
+    (0, (1, 2, 3, 4)), (0, (5,)), (1, ((1, 2, 3, 4), 2, 3, 4)), (1, full_tree(2, 1)), (2, full_tree(3, 1)),
+    (3, full_tree(4, 1)), (3, full_tree(5, 1)), (3, (0, 0, 0, (0, 0, 0, (0, 0, 0, (0, 0, 0, 0))))),
+    # tuples of another length
+    (1, ()), (1, (1,)), (1, (1, 2, 3)), (1, (1, 2, 3, 4, 5)), (2, (1, 2, 3, (1, 2, 3))), (2, ((1, 2, 3, 4, 5), 1, 2, 3)),
+    (3, (0, 0, 0, (0, 0, (0, 0), 0))), (3, (0, 0, 0, (0, 0, (), 0))),
+    # lists in the place of tuples
+    (1, [1, 2, 3, 4]), (2, (1, 2, 3, [1, 2, 3, 4])), (2, [(1, 2, 3, 4), 1, 2, 3]), [2, [1, 2, 3, 4]],
+    # texts that are as long as tuples are
+    "ab", (1, "1234"), (2, (1, 2, 3, "1234")),
+]
+
+
+def nested(thing, times):
+    for _ in range(times):
+        thing = (3, thing)
+    return thing
+
+
+def listed(thing, times):
+    for _ in range(times):
+        thing = [thing, thing]
+    return thing
+
+
+NO_PICTURES.extend([nested(5, 2), nested(5, 10), listed(5, 10), (3, nested(5, 9)), (3, listed(1, 9))])

@@ -1,0 +1,89 @@
+import copy
+import importlib
+import inspect
+import unittest
+
+from samples import NO_PICTURES, some_pictures
+
+from fourfold.edits import cut_out, filled, put, with_quarter
+from fourfold.errors import NoPicture
+from fourfold.pictures import alike, is_lean, is_picture, lean, shown_rows, worth_at
+from fourfold.sizes import deep, fewest_parts, grown, of_quarters, plain_parts, quarter_of
+
+# How many arguments each function takes, as the interface tells it.
+FUNCTIONS = {
+    "pictures": {"is_picture": 1, "is_lean": 1, "alike": 2, "lean": 1, "shown_rows": 1, "of_rows": 1, "worth_at": 3},
+    "sizes": {"plain_parts": 1, "fewest_parts": 1, "deep": 1, "plain": 2, "how_many": 2, "how_many_deep": 3,
+              "quarter_of": 2, "of_quarters": 1, "grown": 1},
+    "edits": {"filled": 3, "put": 4, "with_quarter": 3, "cut_out": 3},
+}
+
+GOOD = (1, (1, 2, 3, 4))
+
+# Every place where a picture is handed in, the rest being as it should be.
+TAKES_A_PICTURE = {
+    "is_lean": is_lean,
+    "lean": lean,
+    "alike, one": lambda thing: alike(thing, GOOD),
+    "alike, other": lambda thing: alike(GOOD, thing),
+    "shown_rows": shown_rows,
+    "worth_at": lambda thing: worth_at(thing, 0, 0),
+    "plain_parts": plain_parts,
+    "fewest_parts": fewest_parts,
+    "deep": deep,
+    "quarter_of": lambda thing: quarter_of(thing, 0),
+    "of_quarters, first": lambda thing: of_quarters([thing, GOOD, GOOD, GOOD]),
+    "of_quarters, last": lambda thing: of_quarters([GOOD, GOOD, GOOD, thing]),
+    "grown": grown,
+    "filled": lambda thing: filled(thing, (0, 0, 1, 1), 1),
+    "put": lambda thing: put(thing, 0, 0, 1),
+    "with_quarter, picture": lambda thing: with_quarter(thing, 0, (0, 1)),
+    "with_quarter, other": lambda thing: with_quarter(GOOD, 0, thing),
+    "cut_out": lambda thing: cut_out(thing, 0, 0),
+}
+
+# The same places, where anything else that is due would be raised too.
+TAKES_A_PICTURE_FIRST = {
+    "worth_at": lambda thing: worth_at(thing, -1, 99),
+    "quarter_of": lambda thing: quarter_of(thing, 4),
+    "of_quarters, unlike ones": lambda thing: of_quarters([(0, 1), (1, 2), (3, 4), thing]),
+    "of_quarters, of size 3": lambda thing: of_quarters([(3, 1), (3, 1), thing, (3, 1)]),
+    "filled": lambda thing: filled(thing, (9, 9, 0, 0), 10),
+    "put": lambda thing: put(thing, 99, -1, 10),
+    "with_quarter, picture": lambda thing: with_quarter(thing, 4, (3, 0)),
+    "with_quarter, other": lambda thing: with_quarter(GOOD, 4, thing),
+    "cut_out": lambda thing: cut_out(thing, 4, 99),
+}
+
+
+class TestInterface(unittest.TestCase):
+    def test_all_names_take_what_is_told(self):
+        for module, functions in FUNCTIONS.items():
+            held = importlib.import_module("fourfold." + module)
+            for name, many in functions.items():
+                with self.subTest(name=name):
+                    parameters = inspect.signature(getattr(held, name)).parameters
+                    self.assertEqual(len(parameters), many)
+
+    def test_what_is_no_picture_is_refused(self):
+        for places in (TAKES_A_PICTURE, TAKES_A_PICTURE_FIRST):
+            for name, call in places.items():
+                for thing in NO_PICTURES:
+                    with self.subTest(name=name, thing=thing):
+                        self.assertRaises(NoPicture, call, thing)
+
+    def test_what_is_handed_in_is_not_changed(self):
+        for name, call in dict(TAKES_A_PICTURE, is_picture=is_picture).items():
+            for thing in NO_PICTURES + some_pictures():
+                kept = copy.deepcopy(thing)
+                try:
+                    call(thing)
+                except ValueError:
+                    pass
+                self.assertEqual(repr(thing), repr(kept), name)
+
+    def test_lists_are_not_changed(self):
+        four = [(1, (1, 1, 1, 1)), GOOD, (1, 5), GOOD]
+        kept = copy.deepcopy(four)
+        of_quarters(four)
+        self.assertEqual(four, kept)
