@@ -2,6 +2,9 @@
 
 import itertools
 import random
+import unittest
+
+from fourfold.pictures import is_picture
 
 
 def every_tree(size, worths):
@@ -78,6 +81,55 @@ def melts(tree):
     return any(melts(part) for part in tree)
 
 
+class PictureTest(unittest.TestCase):
+    def assert_shows(self, told, rows):
+        """That a picture is told, in its least form, and has these rows."""
+        self.assertTrue(is_picture(told), told)
+        self.assertFalse(melts(told[1]), told)
+        self.assertEqual(painted(told), rows)
+
+
+def turned_rows(rows):
+    """Rows turned by the clock: the lowest spot of a column comes first in its row."""
+    return tuple(zip(*reversed(rows)))
+
+
+def mirrored_rows(rows):
+    return tuple(tuple(reversed(row)) for row in rows)
+
+
+def rows_by_way(rows, way):
+    if way > 3:
+        rows = mirrored_rows(rows)
+    for _ in range(way % 4):
+        rows = turned_rows(rows)
+    return rows
+
+
+def every_box(side):
+    for left, top in itertools.product(range(side), repeat=2):
+        for width, height in itertools.product(range(1, side - left + 1), range(1, side - top + 1)):
+            yield (left, top, width, height)
+
+
+def boxes_beyond(side):
+    """Boxes that lie partly or wholly beyond a picture, or have no spot."""
+    return [
+        (0, 0, 0, 1), (0, 0, 1, 0), (0, 0, 0, 0), (0, 0, -1, 1), (0, 0, 1, -1), (1, 1, -1, -1),
+        (side, 0, 0, 1), (0, side, 1, 0),
+        (-1, 0, 1, 1), (0, -1, 1, 1), (-1, 0, 2, 1), (0, -1, 1, 2),
+        (side, 0, 1, 1), (0, side, 1, 1), (side - 1, 0, 2, 1), (0, side - 1, 1, 2),
+        (0, 0, side + 1, 1), (0, 0, 1, side + 1), (0, 0, side + 1, side + 1),
+        (-1, -1, side + 2, side + 2), (10 ** 30, 0, 1, 1), (0, 0, 1, 10 ** 30), (-10 ** 30, 0, 10 ** 30 + 1, 1),
+    ]
+
+
+# Of a picture of any size.
+NO_BOXES = [
+    (False, 0, 1, 1), (0, False, 1, 1), (0, 0, True, 1), (0, 0, 1, True),
+    (), (0, 0, 1), (0, 0, 1, 1, 1), [0, 0, 1, 1], (0, 0, 1, None), (0, 0, "1", 1), None, 5, "0011",
+]
+
 NAMED = [
     (0, 0),
     (0, 9),
@@ -91,6 +143,9 @@ NAMED = [
     (3, full_tree(3, 8)),
     (3, (((1, 2, 3, 4), 5, 6, 7), 0, (8, 8, 8, (8, 8, 8, 8)), ((9, 0, 9, 0), 1, 2, 2))),
 ]
+
+# One picture for each size, two of them not in their least form.
+EACH_SIZE = [(0, 3), (1, (1, 1, 1, 1)), (2, (0, (1, 1, 2, 1), 0, 9)), (3, (((1, 2, 3, 4), 5, 5, 5), 0, full_tree(2, 8), 9))]
 
 NO_WORTHS = [-1, 10, 11, 10 ** 30, -10 ** 30, True, False, None, "", "1", "5", [], [1], (), (1,), (1, 2, 3, 4)]
 

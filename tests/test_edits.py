@@ -1,7 +1,7 @@
 import itertools
-import unittest
 
-from samples import NO_WORTHS, full_tree, melts, painted, some_pictures
+from samples import (EACH_SIZE, NO_BOXES, NO_WORTHS, PictureTest, boxes_beyond, every_box, full_tree, melts, painted,
+                     some_pictures)
 
 from fourfold.edits import cut_out, filled, put, with_quarter
 from fourfold.errors import BadBox, NoPicture, NoSpot, Unlike
@@ -10,9 +10,6 @@ from fourfold.sizes import of_quarters, quarter_of
 
 NO_NUMBERS = [-1, 4, 5, -4, 10 ** 30, -10 ** 30, True, False]
 
-# One picture for each size, two of them not in their least form.
-EACH_SIZE = [(0, 3), (1, (1, 1, 1, 1)), (2, (0, (1, 1, 2, 1), 0, 9)), (3, (((1, 2, 3, 4), 5, 5, 5), 0, full_tree(2, 8), 9))]
-
 
 def rows_with(rows, box, worth):
     left, top, width, height = box
@@ -20,20 +17,7 @@ def rows_with(rows, box, worth):
     return tuple(tuple(worth if (x, y) in inside else old for x, old in enumerate(row)) for y, row in enumerate(rows))
 
 
-def every_box(side):
-    for left, top in itertools.product(range(side), repeat=2):
-        for width, height in itertools.product(range(1, side - left + 1), range(1, side - top + 1)):
-            yield (left, top, width, height)
-
-
-class EditTest(unittest.TestCase):
-    def assert_shows(self, told, rows):
-        self.assertTrue(is_picture(told))
-        self.assertFalse(melts(told[1]))
-        self.assertEqual(painted(told), rows)
-
-
-class TestFilled(EditTest):
+class TestFilled(PictureTest):
     def test_named_boxes(self):
         self.assertEqual(filled((2, 0), (1, 1, 2, 2), 5),
                          (2, ((0, 0, 0, 5), (0, 0, 5, 0), (0, 5, 0, 0), (5, 0, 0, 0))))
@@ -58,24 +42,13 @@ class TestFilled(EditTest):
 
     def test_boxes_partly_beyond_or_without_spots(self):
         for size, side in enumerate((1, 2, 4, 8)):
-            for box in [
-                (0, 0, 0, 1), (0, 0, 1, 0), (0, 0, 0, 0), (0, 0, -1, 1), (0, 0, 1, -1), (1, 1, -1, -1),
-                (side, 0, 0, 1), (0, side, 1, 0),
-                (-1, 0, 1, 1), (0, -1, 1, 1), (-1, 0, 2, 1), (0, -1, 1, 2),
-                (side, 0, 1, 1), (0, side, 1, 1), (side - 1, 0, 2, 1), (0, side - 1, 1, 2),
-                (0, 0, side + 1, 1), (0, 0, 1, side + 1), (0, 0, side + 1, side + 1),
-                (-1, -1, side + 2, side + 2), (10 ** 30, 0, 1, 1), (0, 0, 1, 10 ** 30), (-10 ** 30, 0, 10 ** 30 + 1, 1),
-            ]:
+            for box in boxes_beyond(side):
                 for tree in (5, full_tree(size, 5)):
                     with self.subTest(size=size, box=box):
                         self.assertRaises(BadBox, filled, (size, tree), box, 1)
 
-    def test_truths_are_no_numbers_of_a_box(self):
-        for box in ((False, 0, 1, 1), (0, False, 1, 1), (0, 0, True, 1), (0, 0, 1, True)):
-            self.assertRaises(BadBox, filled, (1, 5), box, 1)
-
     def test_what_is_no_box(self):
-        for box in ((), (0, 0, 1), (0, 0, 1, 1, 1), [0, 0, 1, 1], (0, 0, 1, None), (0, 0, "1", 1), None, 5, "0011"):
+        for box in NO_BOXES:
             self.assertRaises(BadBox, filled, (1, 5), box, 1)
 
     def test_worths_that_are_none(self):
@@ -90,7 +63,7 @@ class TestFilled(EditTest):
         self.assertRaises(NoPicture, filled, (1, 10), (0, 0, 3, 1), 1)
 
 
-class TestPut(EditTest):
+class TestPut(PictureTest):
     def test_all_spots(self):
         for picture in EACH_SIZE:
             rows = painted(picture)
@@ -133,7 +106,7 @@ class TestPut(EditTest):
         self.assertRaises(NoPicture, put, (0, True), 0, 2, 1)
 
 
-class TestWithQuarter(EditTest):
+class TestWithQuarter(PictureTest):
     def test_named_pictures(self):
         self.assertEqual(with_quarter((1, 5), 2, (0, 6)), (1, (5, 5, 6, 5)))
         self.assertEqual(with_quarter((2, (1, 2, 3, 4)), 0, (1, (5, 6, 7, 8))), (2, ((5, 6, 7, 8), 2, 3, 4)))
@@ -180,7 +153,7 @@ class TestWithQuarter(EditTest):
             self.assertRaises(NoSpot, with_quarter, (2, 5), number, (2, 6))
 
 
-class TestCutOut(EditTest):
+class TestCutOut(PictureTest):
     def test_named_pictures(self):
         picture = (3, (0, 1, 2, (3, 4, 5, (6, 7, 8, 9))))
         self.assertEqual([cut_out(picture, 3, deep) for deep in range(4)],

@@ -5,10 +5,15 @@ import unittest
 
 from samples import NO_PICTURES, some_pictures
 
+from fourfold.blocks import block_at, blocks, neighbours
 from fourfold.edits import cut_out, filled, put, with_quarter
 from fourfold.errors import NoPicture
 from fourfold.pictures import alike, is_lean, is_picture, lean, shown_rows, worth_at
+from fourfold.rules import all_joined, joined, led_over, shaped
 from fourfold.sizes import deep, fewest_parts, grown, of_quarters, plain_parts, quarter_of
+from fourfold.sums import (count_in, counts, first_spot, greatest_in, is_plain, least_in, sum_in, sums_across,
+                           sums_down, total)
+from fourfold.turns import all_ways, are_kin, by_way, flipped, least_way, mirrored, swapped, turned, ways_to
 
 # How many arguments each function takes, as the interface tells it.
 FUNCTIONS = {
@@ -16,9 +21,16 @@ FUNCTIONS = {
     "sizes": {"plain_parts": 1, "fewest_parts": 1, "deep": 1, "plain": 2, "how_many": 2, "how_many_deep": 3,
               "quarter_of": 2, "of_quarters": 1, "grown": 1},
     "edits": {"filled": 3, "put": 4, "with_quarter": 3, "cut_out": 3},
+    "turns": {"turned": 1, "mirrored": 1, "flipped": 1, "swapped": 1, "by_way": 2, "all_ways": 1, "spot_behind": 4,
+              "behind_way": 2, "ways_to": 2, "least_way": 1, "how_many_kinds": 2, "are_kin": 2},
+    "rules": {"joined": 3, "led_over": 2, "all_joined": 2, "shaped": 3},
+    "sums": {"sum_in": 2, "least_in": 2, "greatest_in": 2, "count_in": 3, "total": 1, "counts": 1, "sums_across": 1,
+             "sums_down": 1, "first_spot": 2, "is_plain": 2},
+    "blocks": {"blocks": 1, "of_blocks": 2, "block_at": 3, "neighbours": 3},
 }
 
 GOOD = (1, (1, 2, 3, 4))
+TABLE = (9, 8, 7, 6, 5, 4, 3, 2, 1, 0)
 
 # Every place where a picture is handed in, the rest being as it should be.
 TAKES_A_PICTURE = {
@@ -40,6 +52,40 @@ TAKES_A_PICTURE = {
     "with_quarter, picture": lambda thing: with_quarter(thing, 0, (0, 1)),
     "with_quarter, other": lambda thing: with_quarter(GOOD, 0, thing),
     "cut_out": lambda thing: cut_out(thing, 0, 0),
+    "turned": turned,
+    "mirrored": mirrored,
+    "flipped": flipped,
+    "swapped": swapped,
+    "by_way": lambda thing: by_way(thing, 0),
+    "by_way, mirrored": lambda thing: by_way(thing, 5),
+    "all_ways": all_ways,
+    "ways_to, one": lambda thing: ways_to(thing, GOOD),
+    "ways_to, other": lambda thing: ways_to(GOOD, thing),
+    "are_kin, one": lambda thing: are_kin(thing, GOOD),
+    "are_kin, other": lambda thing: are_kin(GOOD, thing),
+    "least_way": least_way,
+    "joined, one": lambda thing: joined("last", thing, GOOD),
+    "joined, other": lambda thing: joined("first", GOOD, thing),
+    "led_over": lambda thing: led_over(TABLE, thing),
+    "all_joined, alone": lambda thing: all_joined("sum", [thing]),
+    "all_joined, first": lambda thing: all_joined("last", [thing, GOOD]),
+    "all_joined, last": lambda thing: all_joined("first", [GOOD, GOOD, thing]),
+    "shaped, picture": lambda thing: shaped(thing, (1, 0), GOOD),
+    "shaped, mask": lambda thing: shaped(GOOD, thing, GOOD),
+    "shaped, other": lambda thing: shaped(GOOD, (1, 1), thing),
+    "sum_in": lambda thing: sum_in(thing, (0, 0, 1, 1)),
+    "least_in": lambda thing: least_in(thing, (0, 0, 1, 1)),
+    "greatest_in": lambda thing: greatest_in(thing, (0, 0, 1, 1)),
+    "count_in": lambda thing: count_in(thing, (0, 0, 1, 1), 1),
+    "is_plain": lambda thing: is_plain(thing, (0, 0, 1, 1)),
+    "total": total,
+    "counts": counts,
+    "sums_across": sums_across,
+    "sums_down": sums_down,
+    "first_spot": lambda thing: first_spot(thing, 1),
+    "blocks": blocks,
+    "block_at": lambda thing: block_at(thing, 0, 0),
+    "neighbours": lambda thing: neighbours(thing, 0, 0),
 }
 
 # The same places, where anything else that is due would be raised too.
@@ -53,6 +99,18 @@ TAKES_A_PICTURE_FIRST = {
     "with_quarter, picture": lambda thing: with_quarter(thing, 4, (3, 0)),
     "with_quarter, other": lambda thing: with_quarter(GOOD, 4, thing),
     "cut_out": lambda thing: cut_out(thing, 4, 99),
+    "by_way": lambda thing: by_way(thing, 8),
+    "joined, one": lambda thing: joined("sum", thing, None),
+    "shaped, other": lambda thing: shaped((0, 1), (3, 0), thing),
+    "all_joined": lambda thing: all_joined("sum", [(0, 1), (3, 1), thing]),
+    "sum_in": lambda thing: sum_in(thing, (9, 9, 0, 0)),
+    "least_in": lambda thing: least_in(thing, (9, 9, 0, 0)),
+    "greatest_in": lambda thing: greatest_in(thing, (9, 9, 0, 0)),
+    "count_in": lambda thing: count_in(thing, (9, 9, 0, 0), 10),
+    "is_plain": lambda thing: is_plain(thing, (9, 9, 0, 0)),
+    "first_spot": lambda thing: first_spot(thing, True),
+    "block_at": lambda thing: block_at(thing, -1, 99),
+    "neighbours": lambda thing: neighbours(thing, 99, -1),
 }
 
 

@@ -29,6 +29,20 @@ STATEMENTS = (ast.Assign, ast.AugAssign, ast.If, ast.While, ast.For, ast.Return,
 NO_EXPRESSIONS = (ast.SetComp, ast.DictComp, ast.GeneratorExp, ast.NamedExpr, ast.Starred, ast.Await, ast.Yield,
                   ast.YieldFrom, ast.Div, ast.MatMult)
 
+# The keywords that Python's own names may be called with.
+KEYWORDS = {"sorted": ["key", "reverse"], "min": ["key", "default"], "max": ["key", "default"], "sum": ["start"],
+            "enumerate": ["start"], "zip": ["strict"]}
+
+KEYS = ["len", "int", "str", "abs", "sum", "min", "max", "tuple"]
+
+WALKED = ["zip", "enumerate", "reversed", "range", "items", "keys", "values"]
+
+WALKERS = ["list", "tuple", "dict", "sorted", "sum", "any", "all", "enumerate", "zip"]
+
+READERS = ["len", "list", "dict", "tuple", "sorted", "min", "max", "sum", "any", "all", "enumerate", "zip", "reversed"]
+
+READING = ["get", "items", "keys", "values", "index", "count"]
+
 TWO_UNDERSCORES = ["__init__", "__eq__", "__repr__", "__str__", "__len__"]
 
 
@@ -44,6 +58,31 @@ def nodes():
     for path in files():
         for node in ast.walk(tree_of(path)):
             yield node, f"{path.name}:{getattr(node, 'lineno', 0)}"
+
+
+def nodes_within():
+    """Each node with the one around it."""
+    for path in files():
+        for around in ast.walk(tree_of(path)):
+            for node in ast.iter_child_nodes(around):
+                yield node, around, f"{path.name}:{getattr(node, 'lineno', 0)}"
+
+
+def called(node):
+    """The name of the function or method that a call calls, or None."""
+    if not isinstance(node, ast.Call):
+        return None
+    return getattr(node.func, "id", getattr(node.func, "attr", None))
+
+
+def is_walked(node, around):
+    return isinstance(around, (ast.For, ast.comprehension)) and around.iter is node
+
+
+def kept_names(tree):
+    """The names of the lists and dicts of a file's top."""
+    return [node.targets[0].id for node in tree.body
+            if isinstance(node, ast.Assign) and isinstance(node.value, (ast.List, ast.Dict))]
 
 
 def bound_names(tree):
@@ -190,6 +229,70 @@ class TestCode(unittest.TestCase):
             for node in ast.walk(tree):
                 if isinstance(node, (ast.FunctionDef, ast.Lambda)):
                     self.assertEqual(taken.intersection(local_names(node)), set(), f"{path.name}:{node.lineno}")
+
+    def test_no_annotations(self):
+        for node, place in nodes():
+            if isinstance(node, ast.FunctionDef):
+                self.assertIsNone(node.returns, place)
+            if isinstance(node, ast.arg):
+                self.assertIsNone(node.annotation, place)
+
+    def test_keywords(self):
+        for node, place in nodes():
+            if isinstance(node, ast.Call) and called(node) in OWN_NAMES | METHODS:
+                for keyword in node.keywords:
+                    self.assertIn(keyword.arg, KEYWORDS.get(called(node), []), place)
+
+    def test_own_names_of_python_are_called_not_kept(self):
+        for node, around, place in nodes_within():
+            if not isinstance(node, ast.Name) or node.id not in OWN_NAMES:
+                continue
+            if isinstance(getattr(builtins, node.id), type) and issubclass(getattr(builtins, node.id), Exception):
+                continue
+            if isinstance(around, ast.keyword):
+                self.assertIn(node.id, KEYS, place)
+            elif isinstance(around, ast.Call) and around.func is not node:
+                self.assertEqual((called(around), around.args[1]), ("isinstance", node), place)
+            elif isinstance(around, ast.Tuple):
+                self.assertIn(node.id, ("int", "str", "bool", "list", "tuple", "dict"), place)
+            else:
+                self.assertIsInstance(around, ast.Call, place)
+
+    def test_walked_at_once(self):
+        for node, around, place in nodes_within():
+            if called(node) not in WALKED or is_walked(node, around):
+                continue
+            if called(around) in ("min", "max"):
+                self.assertEqual(around.args, [node], place)
+            else:
+                self.assertIn(called(around), WALKERS + ["join"], place)
+                self.assertIs(around.args[0], node, place)
+
+    def test_no_set_is_kept_or_walked(self):
+        for node, around, place in nodes_within():
+            if isinstance(node, ast.Set) or called(node) in ("set", "frozenset"):
+                self.assertTrue(isinstance(around, (ast.Compare, ast.BinOp)) or called(around) in ("sorted", "len"), place)
+
+    def test_lists_and_dicts_of_the_top_are_only_read(self):
+        for path in files():
+            tree = tree_of(path)
+            kept = kept_names(tree)
+            for statement in tree.body:
+                if isinstance(statement, ast.Assign):
+                    inner = [node for node in ast.walk(statement.value) if node is not statement.value]
+                    self.assertFalse([node for node in inner if isinstance(node, (ast.List, ast.Dict, ast.Set))], path.name)
+            for around in ast.walk(tree):
+                for node in ast.iter_child_nodes(around):
+                    if isinstance(node, ast.Name) and isinstance(node.ctx, ast.Load) and node.id in kept:
+                        place = f"{path.name}:{node.lineno}"
+                        if isinstance(around, ast.Subscript):
+                            self.assertIsInstance(around.ctx, ast.Load, place)
+                        elif isinstance(around, ast.Attribute):
+                            self.assertIn(around.attr, READING, place)
+                        elif isinstance(around, ast.Call):
+                            self.assertIn(called(around), READERS, place)
+                        else:
+                            self.assertTrue(isinstance(around, ast.Compare) or is_walked(node, around), place)
 
     def test_methods(self):
         own = set()
