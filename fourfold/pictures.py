@@ -1,16 +1,14 @@
 """Pictures, their spots, their rows and their least forms."""
 
 from fourfold.errors import NoPicture, NoSpot
-from fourfold.trees import is_size, is_tree, is_whole, is_worth, lean_tree, tree_of, worth_in
+from fourfold.trees import is_sized_tree, is_whole, is_worth, lean_tree, tree_of, worth_in
 
 # How many spots a picture of each size has across and down.
 SIDES = (1, 2, 4, 8)
 
 
 def is_picture(thing):
-    if not isinstance(thing, tuple) or len(thing) != 2:
-        return False
-    return is_size(thing[0]) and is_tree(thing[0], thing[1])
+    return is_sized_tree(thing, is_worth)
 
 
 def check_picture(thing):

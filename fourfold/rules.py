@@ -49,10 +49,13 @@ RULES = {
 }
 
 
-def check_rule(thing):
-    # Any thing may come as a word, and a list can't be looked up in a dict.
-    if not isinstance(thing, str) or thing not in RULES:
+def check_word(thing, words):
+    if thing not in words:
         raise NoRule("this is no word of a rule")
+
+
+def check_rule(thing):
+    check_word(thing, list(RULES))
 
 
 def is_table(thing):
@@ -66,13 +69,17 @@ def check_table(thing):
         raise NoRule("a table is a tuple of ten worths")
 
 
+def check_sizes(things):
+    for thing in things:
+        if thing[0] != things[0][0]:
+            raise Unlike("these are of unlike sizes")
+
+
 def check_pictures(pictures):
     # All are asked ahead of their sizes, as Unlike comes behind NoPicture.
     for picture in pictures:
         check_picture(picture)
-    for picture in pictures:
-        if picture[0] != pictures[0][0]:
-            raise Unlike("the pictures are of unlike sizes")
+    check_sizes(pictures)
 
 
 def joined_tree(make, one, other):

@@ -1,6 +1,6 @@
 """Whole numbers, worths and trees: what the modules of pictures share.
 
-Functions that take a tree trust it: whoever hands it on has asked is_tree first.
+Functions that take a tree trust it: whoever hands it on has asked is_sized_tree first.
 """
 
 LARGEST_SIZE = 3
@@ -20,12 +20,19 @@ def is_size(thing):
     return is_whole(thing) and 0 <= thing <= LARGEST_SIZE
 
 
-def is_tree(size, thing):
+def is_tree(size, thing, is_end):
+    # What may stand at the ends of a tree is asked of is_end: of pictures worths alone, of changes None too.
     if not isinstance(thing, tuple):
-        return is_worth(thing)
+        return is_end(thing)
     if size == 0 or len(thing) != 4:
         return False
-    return all([is_tree(size - 1, part) for part in thing])
+    return all([is_tree(size - 1, part, is_end) for part in thing])
+
+
+def is_sized_tree(thing, is_end):
+    if not isinstance(thing, tuple) or len(thing) != 2:
+        return False
+    return is_size(thing[0]) and is_tree(thing[0], thing[1], is_end)
 
 
 def put_together(four):

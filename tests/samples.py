@@ -7,16 +7,21 @@ import unittest
 from fourfold.pictures import is_picture
 
 
-def every_tree(size, worths):
-    """All trees of a size, in whatever form, of the worths below a number."""
-    trees = list(range(worths))
+def every_tree(size, ends):
+    """All trees of a size, in whatever form, with these things at their ends."""
+    trees = list(ends)
     if size > 0:
-        trees.extend(itertools.product(every_tree(size - 1, worths), repeat=4))
+        trees.extend(itertools.product(every_tree(size - 1, ends), repeat=4))
     return trees
 
 
 def every_picture(size, worths):
-    return [(size, tree) for tree in every_tree(size, worths)]
+    """All pictures of a size, in whatever form, of the worths below a number."""
+    return [(size, tree) for tree in every_tree(size, range(worths))]
+
+
+def every_change(size, worths):
+    return [(size, tree) for tree in every_tree(size, [None] + list(range(worths)))]
 
 
 def every_rows(size, worths):
@@ -48,10 +53,10 @@ def painted(picture):
     return tuple(tuple(row) for row in canvas)
 
 
-def some_tree(source, size, worths):
+def some_tree(source, size, ends):
     if size == 0 or source.randrange(4) == 0:
-        return source.randrange(worths)
-    return tuple(some_tree(source, size - 1, worths) for _ in range(4))
+        return source.choice(ends)
+    return tuple(some_tree(source, size - 1, ends) for _ in range(4))
 
 
 def some_pictures(many=60):
@@ -60,8 +65,24 @@ def some_pictures(many=60):
     pictures = list(NAMED)
     for number in range(many):
         size = number % 4
-        pictures.append((size, some_tree(source, size, (2, 10)[number // 4 % 2])))
+        pictures.append((size, some_tree(source, size, range((2, 10)[number // 4 % 2]))))
     return pictures
+
+
+def some_changes(many=60):
+    """The same changes each time, of all sizes, in their least form and not; some of them are pictures."""
+    source = random.Random(9)
+    changes = WITH_NONE + EACH_SIZE
+    for number in range(many):
+        size = number % 4
+        ends = ((None, 0, 1), (None, None, None, 0, 1, 2, 3, 4, 5, 6, 7, 8, 9))[number // 4 % 2]
+        changes.append((size, some_tree(source, size, ends)))
+    return changes
+
+
+def of_one_size(things, others):
+    """All couples of two lists whose sizes are the same."""
+    return [(one, other) for one in things for other in others if one[0] == other[0]]
 
 
 def full_tree(size, worth):
@@ -149,24 +170,30 @@ EACH_SIZE = [(0, 3), (1, (1, 1, 1, 1)), (2, (0, (1, 1, 2, 1), 0, 9)), (3, (((1, 
 
 NO_WORTHS = [-1, 10, 11, 10 ** 30, -10 ** 30, True, False, None, "", "1", "5", [], [1], (), (1,), (1, 2, 3, 4)]
 
-NO_PICTURES = [
+# No changes, and so no pictures either.
+NO_CHANGES = [
     0, 5, -1, True, False, None, "", "0:5", "15", [], (), (0,), (5,), (0, 5, 0), (1, 2, 3, 4), [0, 5], [1, (1, 2, 3, 4)],
     ((0, 5),), ((0, 5), (0, 5)), (None, 5), ("1", 5), ((), 5), ([1], 5), ((1,), 5),
+    (None,), (None, None), [0, None], (0, None, 0),
     # sizes beside 0 to 3
     (-1, 5), (4, 5), (4, full_tree(4, 1)), (10 ** 30, 5), (True, 5), (False, 5), (True, (1, 2, 3, 4)),
+    (-1, None), (4, None), (True, None),
     # worths beside 0 to 9, at any depth
-    (0, -1), (0, 10), (2, -1), (3, 10), (0, True), (0, False), (3, True), (0, None), (0, "5"), (1, [5]), (0, [5]),
-    (1, (1, 2, 3, 10)), (1, (-1, 2, 3, 4)), (1, (1, True, 3, 4)), (1, (1, 2, 3, False)), (1, (None, 2, 3, 4)),
+    (0, -1), (0, 10), (2, -1), (3, 10), (0, True), (0, False), (3, True), (0, "5"), (1, [5]), (0, [5]),
+    (1, (1, 2, 3, 10)), (1, (-1, 2, 3, 4)), (1, (1, True, 3, 4)), (1, (1, 2, 3, False)),
     (2, (1, 2, 3, (1, 2, 3, True))), (3, (1, 2, (1, 2, 3, (False, 0, 0, 0)), 4)), (3, (1, 2, (1, 2, 3, (10, 0, 0, 0)), 4)),
-    (3, (1, 2, (1, 2, 3, (0, 0, 0, "0")), 4)), (3, ((((None, 0, 0, 0), 0, 0, 0)), 0, 0, 0)),
+    (3, (1, 2, (1, 2, 3, (0, 0, 0, "0")), 4)), (3, (None, 2, (None, 2, 3, (False, 0, 0, 0)), 4)),
+    (3, (10, None, None, None)),
     # trees deeper than their size
     (0, (1, 2, 3, 4)), (0, (5,)), (1, ((1, 2, 3, 4), 2, 3, 4)), (1, full_tree(2, 1)), (2, full_tree(3, 1)),
+    (0, (None,)), (0, full_tree(1, None)), (3, full_tree(4, None)),
     (3, full_tree(4, 1)), (3, full_tree(5, 1)), (3, (0, 0, 0, (0, 0, 0, (0, 0, 0, (0, 0, 0, 0))))),
     # tuples of another length
     (1, ()), (1, (1,)), (1, (1, 2, 3)), (1, (1, 2, 3, 4, 5)), (2, (1, 2, 3, (1, 2, 3))), (2, ((1, 2, 3, 4, 5), 1, 2, 3)),
-    (3, (0, 0, 0, (0, 0, (0, 0), 0))), (3, (0, 0, 0, (0, 0, (), 0))),
+    (1, (None,) * 3), (1, (None,) * 5), (3, (0, 0, 0, (0, 0, (0, 0), 0))), (3, (0, 0, 0, (0, 0, (), 0))),
     # lists in the place of tuples
     (1, [1, 2, 3, 4]), (2, (1, 2, 3, [1, 2, 3, 4])), (2, [(1, 2, 3, 4), 1, 2, 3]), [2, [1, 2, 3, 4]],
+    (1, [None] * 4), (0, [None]),
     # texts that are as long as tuples are
     "ab", (1, "1234"), (2, (1, 2, 3, "1234")),
 ]
@@ -184,4 +211,12 @@ def listed(thing, times):
     return thing
 
 
-NO_PICTURES.extend([nested(5, 2), nested(5, 10), listed(5, 10), (3, nested(5, 9)), (3, listed(1, 9))])
+NO_CHANGES.extend([nested(5, 2), nested(5, 10), nested(None, 10), listed(5, 10), (3, nested(5, 9)), (3, listed(1, 9))])
+
+# Changes that are no pictures.
+WITH_NONE = [
+    (0, None), (3, None), (1, (None, 2, 3, 4)), (1, (None, None, None, None)), (2, (1, 2, 3, (1, 2, 3, None))),
+    (2, (5, full_tree(1, None), (5, 5, 5, 5), None)), (3, (((None, 0, 0, 0), 0, 0, 0), 0, 0, 0)), (3, full_tree(3, None)),
+]
+
+NO_PICTURES = NO_CHANGES + WITH_NONE

@@ -3,17 +3,22 @@ import importlib
 import inspect
 import unittest
 
-from samples import NO_PICTURES, some_pictures
+from samples import NO_PICTURES, some_changes, some_pictures
 
+from fourfold.areas import area_at, area_sizes, areas, border, how_many_areas, poured
 from fourfold.blocks import block_at, blocks, neighbours
+from fourfold.changes import (are_apart, back_of, behind, between, changed, is_change, lean_change, many_set,
+                              squares_set, worths_unlike)
 from fourfold.edits import cut_out, filled, put, with_quarter
 from fourfold.errors import NoPicture
 from fourfold.pictures import alike, is_lean, is_picture, lean, shown_rows, worth_at
 from fourfold.rules import all_joined, joined, led_over, shaped
+from fourfold.shelves import Shelf
 from fourfold.sizes import deep, fewest_parts, grown, of_quarters, plain_parts, quarter_of
 from fourfold.sums import (count_in, counts, first_spot, greatest_in, is_plain, least_in, sum_in, sums_across,
                            sums_down, total)
 from fourfold.turns import all_ways, are_kin, by_way, flipped, least_way, mirrored, swapped, turned, ways_to
+from fourfold.views import best_view, least_wrong, seen_from
 
 # How many arguments each function takes, as the interface tells it.
 FUNCTIONS = {
@@ -27,6 +32,15 @@ FUNCTIONS = {
     "sums": {"sum_in": 2, "least_in": 2, "greatest_in": 2, "count_in": 3, "total": 1, "counts": 1, "sums_across": 1,
              "sums_down": 1, "first_spot": 2, "is_plain": 2},
     "blocks": {"blocks": 1, "of_blocks": 2, "block_at": 3, "neighbours": 3},
+    "areas": {"area_at": 3, "areas": 1, "area_sizes": 1, "how_many_areas": 1, "border": 1, "poured": 4},
+    "changes": {"is_change": 1, "are_apart": 2, "lean_change": 1, "changed": 2, "between": 2, "behind": 2, "back_of": 2,
+                "squares_set": 1, "many_set": 1, "worths_unlike": 2},
+    "views": {"seen_from": 3, "best_view": 2, "least_wrong": 2},
+}
+
+# The same of classes, for what makes one and for its methods.
+CLASSES = {
+    "shelves": {"Shelf": {"__init__": 0, "keep": 1, "many": 0, "parts": 1, "tree": 1, "picture": 2, "used_by": 1}},
 }
 
 GOOD = (1, (1, 2, 3, 4))
@@ -86,6 +100,36 @@ TAKES_A_PICTURE = {
     "blocks": blocks,
     "block_at": lambda thing: block_at(thing, 0, 0),
     "neighbours": lambda thing: neighbours(thing, 0, 0),
+    "area_at": lambda thing: area_at(thing, 0, 0),
+    "areas": areas,
+    "area_sizes": area_sizes,
+    "how_many_areas": how_many_areas,
+    "border": border,
+    "poured": lambda thing: poured(thing, 0, 0, 5),
+    "changed": lambda thing: changed(thing, (1, None)),
+    "between, one": lambda thing: between(thing, GOOD),
+    "between, other": lambda thing: between(GOOD, thing),
+    "back_of": lambda thing: back_of(thing, (1, 5)),
+    "worths_unlike, one": lambda thing: worths_unlike(thing, GOOD),
+    "worths_unlike, other": lambda thing: worths_unlike(GOOD, thing),
+    "keep": lambda thing: Shelf().keep(thing),
+    "seen_from": lambda thing: seen_from(thing, 0, "most"),
+    "best_view": lambda thing: best_view(thing, 4),
+    "least_wrong": lambda thing: least_wrong(thing, 4),
+}
+
+# Every place where a change is handed in.
+TAKES_A_CHANGE = {
+    "is_change": is_change,
+    "lean_change": lean_change,
+    "changed": lambda thing: changed(GOOD, thing),
+    "behind, one": lambda thing: behind(thing, (1, None)),
+    "behind, other": lambda thing: behind((1, 5), thing),
+    "back_of": lambda thing: back_of(GOOD, thing),
+    "are_apart, one": lambda thing: are_apart(thing, (1, None)),
+    "are_apart, other": lambda thing: are_apart((1, 5), thing),
+    "squares_set": squares_set,
+    "many_set": many_set,
 }
 
 # The same places, where anything else that is due would be raised too.
@@ -111,6 +155,10 @@ TAKES_A_PICTURE_FIRST = {
     "first_spot": lambda thing: first_spot(thing, True),
     "block_at": lambda thing: block_at(thing, -1, 99),
     "neighbours": lambda thing: neighbours(thing, 99, -1),
+    "area_at": lambda thing: area_at(thing, -1, 99),
+    "poured": lambda thing: poured(thing, -1, 99, 10),
+    "changed": lambda thing: changed(thing, True),
+    "back_of": lambda thing: back_of(thing, (1, True)),
 }
 
 
@@ -123,6 +171,15 @@ class TestInterface(unittest.TestCase):
                     parameters = inspect.signature(getattr(held, name)).parameters
                     self.assertEqual(len(parameters), many)
 
+    def test_all_classes_have_what_is_told(self):
+        for module, classes in CLASSES.items():
+            held = importlib.import_module("fourfold." + module)
+            for class_name, methods in classes.items():
+                for name, many in methods.items():
+                    with self.subTest(class_name=class_name, name=name):
+                        parameters = inspect.signature(getattr(getattr(held, class_name), name)).parameters
+                        self.assertEqual(len(parameters), 1 + many)
+
     def test_what_is_no_picture_is_refused(self):
         for places in (TAKES_A_PICTURE, TAKES_A_PICTURE_FIRST):
             for name, call in places.items():
@@ -131,8 +188,8 @@ class TestInterface(unittest.TestCase):
                         self.assertRaises(NoPicture, call, thing)
 
     def test_what_is_handed_in_is_not_changed(self):
-        for name, call in dict(TAKES_A_PICTURE, is_picture=is_picture).items():
-            for thing in NO_PICTURES + some_pictures():
+        for name, call in list(TAKES_A_PICTURE.items()) + list(TAKES_A_CHANGE.items()) + [("is_picture", is_picture)]:
+            for thing in NO_PICTURES + some_pictures() + some_changes(12):
                 kept = copy.deepcopy(thing)
                 try:
                     call(thing)

@@ -43,6 +43,11 @@ READERS = ["len", "list", "dict", "tuple", "sorted", "min", "max", "sum", "any",
 
 READING = ["get", "items", "keys", "values", "index", "count"]
 
+# Values of an object may be called so, though Python's own values have methods of these names.
+FREE_VALUES = set("count index title find get join lower upper split strip copy add".split())
+
+TAKEN = set().union(*[dir(kind) for kind in (str, int, list, tuple, dict, set, frozenset, bytes)])
+
 TWO_UNDERSCORES = ["__init__", "__eq__", "__repr__", "__str__", "__len__"]
 
 
@@ -304,3 +309,64 @@ class TestCode(unittest.TestCase):
                 self.assertIn(node.func.attr, METHODS | own | set(TWO_UNDERSCORES), place)
             if isinstance(node, ast.Attribute):
                 self.assertNotIn(node.attr, ("register", "mro", "elements", "open", "input", "format", "format_map"), place)
+
+
+def classes():
+    for path in files():
+        for node in ast.walk(tree_of(path)):
+            if isinstance(node, ast.ClassDef):
+                yield node, f"{path.name}:{node.lineno}"
+
+
+def methods_of(node):
+    return [part.name for part in node.body if isinstance(part, ast.FunctionDef)]
+
+
+def values_given():
+    """The names of all values that are given to an object somewhere."""
+    return {node.attr for node, place in nodes() if isinstance(node, ast.Attribute) and isinstance(node.ctx, ast.Store)}
+
+
+class TestClasses(unittest.TestCase):
+    def test_they_stand_at_the_top_and_hold_methods_alone(self):
+        tops = [node for path in files() for node in tree_of(path).body if isinstance(node, ast.ClassDef)]
+        self.assertEqual(len(tops), len(list(classes())))
+        for node, place in classes():
+            for part in node.body:
+                self.assertIsInstance(part, (ast.FunctionDef, ast.Pass), place)
+            self.assertEqual(len(methods_of(node)), len(set(methods_of(node))), place)
+
+    def test_no_name_is_both_a_method_and_a_value(self):
+        for node, place in classes():
+            self.assertEqual(values_given().intersection(methods_of(node)), set(), place)
+
+    def test_methods_and_values_are_called_like_none_of_pythons_own(self):
+        for node, place in classes():
+            for name in methods_of(node):
+                free = name not in TAKEN or name in METHODS or name in ("add", "discard")
+                self.assertTrue(free or name in TWO_UNDERSCORES, place)
+        for name in values_given():
+            self.assertTrue(name not in TAKEN or name in FREE_VALUES, name)
+
+    def test_values_are_given_through_local_names(self):
+        for path in files():
+            tops = top_names(tree_of(path))
+            for node in ast.walk(tree_of(path)):
+                if isinstance(node, ast.Attribute) and isinstance(node.ctx, ast.Store):
+                    self.assertIsInstance(node.value, ast.Name, f"{path.name}:{node.lineno}")
+                    self.assertNotIn(node.value.id, tops, f"{path.name}:{node.lineno}")
+
+    def test_what_makes_one_gives_back_nothing(self):
+        for node, place in classes():
+            for part in node.body:
+                if isinstance(part, ast.FunctionDef) and part.name == "__init__":
+                    self.assertFalse([line for line in ast.walk(part) if isinstance(line, ast.Return)], place)
+
+    def test_they_are_not_kept_or_handed_on(self):
+        names = {node.name for node, place in classes()}
+        for node, around, place in nodes_within():
+            if isinstance(node, ast.Name) and node.id in names:
+                stands = isinstance(around, (ast.ClassDef, ast.ExceptHandler))
+                is_called = isinstance(around, ast.Call) and around.func is node
+                is_asked = called(around) == "isinstance" and around.args[1] is node
+                self.assertTrue(stands or is_called or is_asked, place)
