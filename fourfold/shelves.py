@@ -2,10 +2,10 @@
 
 from fourfold.errors import NoNumber
 from fourfold.pictures import lean
-from fourfold.trees import GREATEST_WORTH, depth_in, is_size, is_whole, is_worth
+from fourfold.trees import depth_in, is_size, is_whole, is_worth
 
 # The numbers below are those of the worths.
-FIRST_NUMBER = GREATEST_WORTH + 1
+FIRST_NUMBER = 10
 
 
 class Shelf:

@@ -2,6 +2,7 @@
 
 import itertools
 import random
+import re
 import unittest
 
 from fourfold.pictures import is_picture
@@ -220,3 +221,34 @@ WITH_NONE = [
 ]
 
 NO_PICTURES = NO_CHANGES + WITH_NONE
+
+
+# All signs that a text may have.
+SIGNS = "".join(map(chr, range(ord(" "), ord("~") + 1))) + "\n"
+
+
+def spoilt(text, signs):
+    """Texts that are near to one: with a sign put in, taken out, exchanged, a stretch left out or told twice."""
+    for place in range(len(text) + 1):
+        yield text[:place]
+        yield text[place:]
+        for sign in signs:
+            yield text[:place] + sign + text[place:]
+            yield text[:place] + sign + text[place + 1:]
+        for end in range(place + 1, min(len(text), place + 14) + 1):
+            yield text[:place] + text[end:]
+            yield text[:end] + text[place:]
+        yield text[:place] + text[place + 1:place + 2] + text[place:place + 1] + text[place + 2:]
+
+
+def written(picture):
+    """A picture's text, made of how Python writes tuples."""
+    return str(picture[0]) + ":" + re.sub("[ ,]", "", repr(picture[1]))
+
+
+def tree_pattern(size):
+    return "[0-9]" if size == 0 else rf"(?:[0-9]|\({tree_pattern(size - 1)}{{4}}\))"
+
+
+# What a text that is a picture's looks like.
+PICTURE_PATTERN = "|".join(f"{size}:{tree_pattern(size)}" for size in range(4))

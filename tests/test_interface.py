@@ -5,18 +5,22 @@ import unittest
 
 from samples import NO_PICTURES, some_changes, some_pictures
 
+from fourfold.albums import Album
 from fourfold.areas import area_at, area_sizes, areas, border, how_many_areas, poured
 from fourfold.blocks import block_at, blocks, neighbours
 from fourfold.changes import (are_apart, back_of, behind, between, changed, is_change, lean_change, many_set,
                               squares_set, worths_unlike)
 from fourfold.edits import cut_out, filled, put, with_quarter
 from fourfold.errors import NoPicture
+from fourfold.measures import box_of, framed, like_rows, rolled, runs_in, worths_in
+from fourfold.painters import Painter
 from fourfold.pictures import alike, is_lean, is_picture, lean, shown_rows, worth_at
 from fourfold.rules import all_joined, joined, led_over, shaped
 from fourfold.shelves import Shelf
 from fourfold.sizes import deep, fewest_parts, grown, of_quarters, plain_parts, quarter_of
 from fourfold.sums import (count_in, counts, first_spot, greatest_in, is_plain, least_in, sum_in, sums_across,
                            sums_down, total)
+from fourfold.texts import picture_text, rows_text
 from fourfold.turns import all_ways, are_kin, by_way, flipped, least_way, mirrored, swapped, turned, ways_to
 from fourfold.views import best_view, least_wrong, seen_from
 
@@ -36,11 +40,17 @@ FUNCTIONS = {
     "changes": {"is_change": 1, "are_apart": 2, "lean_change": 1, "changed": 2, "between": 2, "behind": 2, "back_of": 2,
                 "squares_set": 1, "many_set": 1, "worths_unlike": 2},
     "views": {"seen_from": 3, "best_view": 2, "least_wrong": 2},
+    "texts": {"picture_text": 1, "read_picture": 1, "rows_text": 1, "read_rows": 1},
+    "measures": {"worths_in": 1, "box_of": 2, "runs_in": 2, "like_rows": 1, "rolled": 3, "framed": 2},
+    "albums": {"album_text": 1, "read_album": 1},
 }
 
 # The same of classes, for what makes one and for its methods.
 CLASSES = {
     "shelves": {"Shelf": {"__init__": 0, "keep": 1, "many": 0, "parts": 1, "tree": 1, "picture": 2, "used_by": 1}},
+    "painters": {"Painter": {"__init__": 1, "shown": 0, "fill": 2, "dot": 3, "turn": 1, "undo": 0, "redo": 0, "many": 0}},
+    "albums": {"Album": {"__init__": 0, "put": 2, "picture_of": 1, "take": 1, "join": 4, "move": 2, "names": 0, "same_as": 1,
+                         "back": 0, "forth": 0, "marks": 0, "twin": 0}},
 }
 
 GOOD = (1, (1, 2, 3, 4))
@@ -116,6 +126,16 @@ TAKES_A_PICTURE = {
     "seen_from": lambda thing: seen_from(thing, 0, "most"),
     "best_view": lambda thing: best_view(thing, 4),
     "least_wrong": lambda thing: least_wrong(thing, 4),
+    "Painter": Painter,
+    "picture_text": picture_text,
+    "rows_text": rows_text,
+    "worths_in": worths_in,
+    "box_of": lambda thing: box_of(thing, 5),
+    "runs_in": lambda thing: runs_in(thing, 0),
+    "like_rows": like_rows,
+    "rolled": lambda thing: rolled(thing, 1, 1),
+    "framed": lambda thing: framed(thing, 5),
+    "put of an album": lambda thing: Album().put("a", thing),
 }
 
 # Every place where a change is handed in.
@@ -159,6 +179,10 @@ TAKES_A_PICTURE_FIRST = {
     "poured": lambda thing: poured(thing, -1, 99, 10),
     "changed": lambda thing: changed(thing, True),
     "back_of": lambda thing: back_of(thing, (1, True)),
+    "box_of": lambda thing: box_of(thing, 10),
+    "runs_in": lambda thing: runs_in(thing, -1),
+    "framed": lambda thing: framed(thing, 10),
+    "put of an album": lambda thing: Album().put("A", thing),
 }
 
 

@@ -48,6 +48,8 @@ FREE_VALUES = set("count index title find get join lower upper split strip copy 
 
 TAKEN = set().union(*[dir(kind) for kind in (str, int, list, tuple, dict, set, frozenset, bytes)])
 
+PLAIN_VALUES = (ast.Constant, ast.List, ast.Tuple, ast.Dict, ast.Name, ast.Load)
+
 TWO_UNDERSCORES = ["__init__", "__eq__", "__repr__", "__str__", "__len__"]
 
 
@@ -158,6 +160,21 @@ class TestFiles(unittest.TestCase):
         for path in files():
             names = top_names(tree_of(path))
             self.assertEqual(len(names), len(set(names)), path.name)
+
+    def test_what_stands_at_the_top(self):
+        for path in files():
+            tree = tree_of(path)
+            self.assertIsNotNone(ast.get_docstring(tree), path.name)
+            above = []
+            for node in tree.body[1:]:
+                place = f"{path.name}:{node.lineno}"
+                self.assertIsInstance(node, (ast.ImportFrom, ast.FunctionDef, ast.ClassDef, ast.Assign), place)
+                if isinstance(node, ast.Assign):
+                    for part in ast.walk(node.value):
+                        self.assertIsInstance(part, PLAIN_VALUES, place)
+                        self.assertTrue(not isinstance(part, ast.Name) or part.id in above, place)
+                elif isinstance(node, ast.FunctionDef):
+                    above.append(node.name)
 
     def test_all_imports_are_used(self):
         for path in files():

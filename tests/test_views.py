@@ -9,8 +9,8 @@ from fourfold.views import best_view, least_wrong, seen_from
 
 RULES = ("most", "least", "greatest")
 
-NO_RULES = ["", "Most", "MOST", "most ", " most", "most\n", "mos", "max", "min", "first", "last", "sum", "same", "none", "0",
-            0, 1, True, False, None, [], (), ["most"], ("most",), [["least"]], {}, listed("most", 10)]
+NO_RULES = ["", "Most", "MOST", "most ", " most", "most\n", "mos", "max", "min", "first", "last", "sum", "same", "none",
+            "0", 0, 1, True, False, None, [], (), ["most"], ("most",), [["least"]], {}, listed("most", 10)]
 
 # Told by 16 parts, of unlike sides.
 SIXTEEN = (3, (1, (2, 3, 4, (5, 6, 7, 8)), (2, (3, 4, 5, 6), 7, 8), 9))
@@ -134,9 +134,10 @@ class TestBestView(PictureTest):
         self.assertEqual(unlike(rows, painted(told)), wrong)
 
     def test_named(self):
-        self.assertEqual([least_wrong((2, (0, (1, 1, 2, 1), 0, 9)), most) for most in range(1, 9)], [8, 8, 8, 1, 1, 1, 0, 0])
-        self.assertEqual(best_view((2, (0, (1, 1, 2, 1), 0, 9)), 4), (2, (0, 1, 0, 9)))
-        self.assertEqual(best_view((2, (0, (1, 1, 2, 1), 0, 9)), 1), (2, 0))
+        picture = (2, (0, (1, 1, 2, 1), 0, 9))
+        self.assertEqual([least_wrong(picture, most) for most in range(1, 9)], [8, 8, 8, 1, 1, 1, 0, 0])
+        self.assertEqual(best_view(picture, 4), (2, (0, 1, 0, 9)))
+        self.assertEqual(best_view(picture, 1), (2, 0))
         self.assertEqual(best_view((3, (1, 1, 1, (1, 1, 1, 2))), 3), (3, 1))
         self.assertEqual(least_wrong((3, (1, 1, 1, (1, 1, 1, 2))), 3), 4)
 
